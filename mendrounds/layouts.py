@@ -19,17 +19,16 @@ def _is_field(thing):
     return isinstance(thing, tuple) and len(thing) == 2 and is_name(thing[0]) and thing[1] in (NUMBER, WORD)
 
 
-def _may_hold(kind, thing):
-    """Whether a field of the kind may have any value, or be blank by it."""
-    if thing is None:
-        return True
+def is_value(kind, thing):
+    """Whether any value is a value of the kind."""
     return is_number(thing) if kind == NUMBER else is_word(thing)
 
 
 def first_wrong(layout, values):
     """The first field whose value in the dict, if it has one there, it may not have; None if there is none."""
     for name in layout.names:
-        if name in values and not _may_hold(layout.kind(name), values[name]):
+        value = values.get(name)
+        if value is not None and not is_value(layout.kind(name), value):
             return name
     return None
 

@@ -131,6 +131,31 @@ class Language(unittest.TestCase):
                 known = isinstance(decorator, ast.Name) and decorator.id in DECORATORS
                 self.assertTrue(known or decorator.attr == "setter", (name, node.lineno))
 
+    def test_items_come_with_iteration(self):
+        for name, node in nodes(ast.ClassDef):
+            own = [part.name for part in node.body if isinstance(part, ast.FunctionDef)]
+            self.assertTrue("__getitem__" not in own or "__iter__" in own, (name, node.name))
+            for part in node.body:
+                if isinstance(part, ast.FunctionDef) and part.name == "__iter__":
+                    self.assertEqual(len(part.body), 1, (name, node.name))
+                if isinstance(part, ast.FunctionDef) and part.name == "__len__":
+                    self.assertTrue(ast.unparse(part.body[-1]).startswith("return len("), (name, node.name))
+
+    def test_what_operators_do_not_allow(self):
+        """Tallies have an in-place sign, and several classes compare and have items."""
+        self.assertEqual([(name, node.lineno) for name, node in nodes(ast.AugAssign)], [])
+        for name, node in nodes(ast.Call):
+            called = ast.unparse(node.func)
+            self.assertFalse(called.endswith(".sort"), (name, node.lineno))
+            self.assertTrue(called != "reversed" or ast.unparse(node.args[0]).startswith(("list(", "range(")), (name, node.lineno))
+            if called in ("any", "all", "sum", "min", "max", "sorted"):
+                self.assertNotIsInstance(node.args[0], ast.GeneratorExp, (name, node.lineno))
+
+    def test_super_is_only_called_for_a_method(self):
+        for name, node in nodes(ast.Attribute):
+            if isinstance(node.value, ast.Call) and ast.unparse(node.value) == "super()":
+                self.assertFalse(node.attr.startswith("__") and node.attr != "__init__", (name, node.lineno))
+
     def test_no_name_is_a_method_and_an_attribute_of_one_class(self):
         for name, node in nodes(ast.ClassDef):
             methods = [part.name for part in node.body if isinstance(part, ast.FunctionDef)]
