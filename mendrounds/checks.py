@@ -38,6 +38,10 @@ class Check:
     KIND = "check"
 
     def __init__(self, name, needs, *, blames=(), after=()):
+        self._begin(name, needs, blames, after)
+
+    def _begin(self, name, needs, blames, after):
+        # The classes below take other arguments, each of them its own; so they share this, not the method above.
         if not is_name(name):
             raise BadCheck("name")
         if not _are_blames(blames, needs.layout):
@@ -84,7 +88,7 @@ class Guard(Check):
     KIND = "guard"
 
     def __init__(self, name, needs, *, after=()):
-        Check.__init__(self, name, needs, after=after)
+        self._begin(name, needs, (), after)
 
     def effects(self):
         """What the next class gives, and that it is silent."""
@@ -97,7 +101,7 @@ class Barrier(Check):
     KIND = "barrier"
 
     def __init__(self, name, needs, *, blames=(), after=()):
-        Check.__init__(self, name, needs, blames=blames, after=after)
+        self._begin(name, needs, blames, after)
 
     def effects(self):
         """What the next class gives, and that it stops the report."""
@@ -110,8 +114,11 @@ class Repair(Check):
     KIND = "repair"
 
     def __init__(self, name, needs, *, instead, blames=(), after=()):
-        Check.__init__(self, name, needs, blames=blames, after=after)
-        layout = needs.layout
+        self._begin(name, needs, blames, after)
+        self._stand_in(instead)
+
+    def _stand_in(self, instead):
+        layout = self.needs.layout
         if not _are_stand_ins(instead, layout):
             raise BadCheck("instead")
         self._instead = {field: instead[field] for field in layout.names if field in instead}
@@ -127,7 +134,8 @@ class Default(Guard, Repair):
     KIND = "default"
 
     def __init__(self, name, needs, *, instead, after=()):
-        Repair.__init__(self, name, needs, instead=instead, after=after)
+        self._begin(name, needs, (), after)
+        self._stand_in(instead)
 
 
 class Exit(Guard, Barrier):
@@ -136,4 +144,19 @@ class Exit(Guard, Barrier):
     KIND = "exit"
 
     def __init__(self, name, needs, *, after=()):
-        Guard.__init__(self, name, needs, after=after)
+        self._begin(name, needs, (), after)
+
+
+def made(kind, name, needs, blames, after, instead):
+    """The check of a kind; what checks of this kind do not have is left out."""
+    if kind == Guard.KIND:
+        return Guard(name, needs, after=after)
+    if kind == Exit.KIND:
+        return Exit(name, needs, after=after)
+    if kind == Default.KIND:
+        return Default(name, needs, instead=instead, after=after)
+    if kind == Barrier.KIND:
+        return Barrier(name, needs, blames=blames, after=after)
+    if kind == Repair.KIND:
+        return Repair(name, needs, instead=instead, blames=blames, after=after)
+    return Check(name, needs, blames=blames, after=after)

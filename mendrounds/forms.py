@@ -1,5 +1,5 @@
 """Forms: a layout and checks, in order."""
-from mendrounds.checks import Barrier, Check, Default, Exit, Guard, Repair
+from mendrounds.checks import Barrier, Check, Default, Exit, Guard, Repair, made
 from mendrounds.conditions import Condition
 from mendrounds.errors import BadCheck, BadCondition, BadForm, NoCheck, Refused
 from mendrounds.layouts import NUMBER, WORD, Layout, is_name
@@ -71,7 +71,7 @@ def _split(tokens):
     return {tokens[at]: tokens[at + 1:end] for at, end in zip(starts, [*starts[1:], len(tokens)])}
 
 
-def _made(kind, name, needs, parts):
+def _read_parts(kind, name, needs, parts):
     """The check of a kind, parts being a dict of the words of PARTS that are there and what stands behind them."""
     after = _read_names(parts["after"], "after") if "after" in parts else []
     if ("instead" in parts) != (kind in (Repair.KIND, Default.KIND)):
@@ -79,18 +79,8 @@ def _made(kind, name, needs, parts):
     if kind in (Guard.KIND, Default.KIND, Exit.KIND) and "blames" in parts:
         raise BadCheck("blames")
     blames = _read_names(parts["blames"], "blames") if "blames" in parts else []
-    if kind == Check.KIND:
-        return Check(name, needs, blames=blames, after=after)
-    if kind == Barrier.KIND:
-        return Barrier(name, needs, blames=blames, after=after)
-    if kind == Guard.KIND:
-        return Guard(name, needs, after=after)
-    if kind == Exit.KIND:
-        return Exit(name, needs, after=after)
-    instead = _read_stand_ins(parts["instead"])
-    if kind == Repair.KIND:
-        return Repair(name, needs, instead=instead, blames=blames, after=after)
-    return Default(name, needs, instead=instead, after=after)
+    instead = _read_stand_ins(parts["instead"]) if "instead" in parts else {}
+    return made(kind, name, needs, blames, after, instead)
 
 
 def _read_check(line, layout):
@@ -105,7 +95,7 @@ def _read_check(line, layout):
     start = pairs[2][0] + len(NEEDS)
     end = ends[0] if ends else len(line)
     needs = Condition(line[start:end], layout)
-    return _made(tokens[0], tokens[1], needs, _split(tokens))
+    return _read_parts(tokens[0], tokens[1], needs, _split(tokens))
 
 
 def _may_follow(checks, check):

@@ -17,17 +17,19 @@ REPAIRING = ("repair", "default")
 NAMES = ["one", "two", "three", "four", "five", "six", "seven", "eight"]
 
 
-def random_plan(chance, fields, most=8, depth=1):
+def random_plan(chance, fields, most=8, depth=1, constants=CONSTANTS, stand_ins=STAND_INS):
     names = chance.sample(NAMES, chance.randint(1, most))
-    return (fields, [random_check(chance, fields, names[:at], name, depth) for at, name in enumerate(names)])
+    pools = (constants, stand_ins)
+    return (fields, [random_check(chance, fields, names[:at], name, depth, pools) for at, name in enumerate(names)])
 
 
-def random_check(chance, fields, before, name, depth):
+def random_check(chance, fields, before, name, depth, pools=(CONSTANTS, STAND_INS)):
+    constants, values = pools
     kind = chance.choice(TELLING + STOPPING + REPAIRING + ("guard", "check", "repair", "default"))
     own = [field for field, _ in fields]
-    stand_ins = {field: chance.choice(STAND_INS[of]) for field, of in fields if chance.random() < 0.5} or {own[0]: None}
+    stand_ins = {field: chance.choice(values[of]) for field, of in fields if chance.random() < 0.5} or {own[0]: None}
     return {
-        "kind": kind, "name": name, "tree": random_tree(chance, dict(fields), CONSTANTS, chance.randint(0, depth)),
+        "kind": kind, "name": name, "tree": random_tree(chance, dict(fields), constants, chance.randint(0, depth)),
         "blames": chance.sample(own, chance.randint(0, len(own))) if kind in TELLING else [],
         "after": chance.sample(before, min(len(before), chance.choice([0, 0, 1, 2]))),
         "instead": stand_ins if kind in REPAIRING else {},
