@@ -95,6 +95,13 @@ class Ways(Ground):
             self._nexts[at] = tuple(self.reach(at, names, blamed_by(self.form, names))) if names else ()
         return self._nexts[at]
 
+    def dead_end(self):
+        """A filling of the first pattern at which something is told and which has no mending, or None."""
+        for at in range(len(self.patterns)):
+            if not self.is_let_through(at) and self.nexts(at) == ():
+                return self.some_filling(at)
+        return None
+
     def follow(self, filling, path):
         """The play that begins with a filling and goes on along the patterns with these indexes."""
         last = {name: filling[name] for name in self.form.layout.names}
@@ -140,11 +147,7 @@ def mend(form, filling, pattern, *, telling="all"):
 def dead_end(form, *, telling="all"):
     """A filling of the first pattern at which something is told and which has no mending; None if there is none."""
     check_telling(telling)
-    ways = Ways(form, telling)
-    for at in range(len(ways.patterns)):
-        if not ways.is_let_through(at) and ways.nexts(at) == ():
-            return ways.some_filling(at)
-    return None
+    return Ways(form, telling).dead_end()
 
 
 def is_play(form, thing, *, telling="all"):
