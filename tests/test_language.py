@@ -165,6 +165,26 @@ class Language(unittest.TestCase):
             ]
             self.assertEqual([one for one in set_there if one in methods and not self.has_setter(node, one)], [], name)
 
+    def test_methods_are_not_read_off_a_class(self):
+        """Sheets have a property with the name of an attribute of other classes."""
+        classes = [node for _, node in nodes(ast.ClassDef)]
+        own = [node.name for node in classes]
+        plain = [
+            part.name for node in classes for part in node.body if isinstance(part, ast.FunctionDef) and not part.decorator_list
+        ]
+        for name, node in nodes(ast.Attribute):
+            if isinstance(node.value, ast.Name) and node.value.id in own:
+                self.assertNotIn(node.attr, plain, (name, node.lineno))
+
+    def test_properties_and_methods_have_other_names(self):
+        methods = {True: [], False: []}
+        for _, node in nodes(ast.ClassDef):
+            for part in node.body:
+                if isinstance(part, ast.FunctionDef):
+                    methods[bool(part.decorator_list) and ast.unparse(part.decorator_list[0]) == "property"].append(part.name)
+        setters = [part.name for _, part in nodes(ast.FunctionDef) if part.decorator_list and ast.unparse(part.decorator_list[0]).endswith("setter")]
+        self.assertEqual([name for name in methods[True] if name in methods[False] and name not in setters], [])
+
     def has_setter(self, node, name):
         found = [part for part in node.body if isinstance(part, ast.FunctionDef) and part.name == name]
         return len(found) == 2
