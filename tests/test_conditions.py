@@ -4,7 +4,7 @@ import unittest
 from itertools import product
 
 from grammar import (
-    is_condition, random_tree, tokens_with_places, tree_fields, tree_holds, tree_tokens, wrong_at,
+    is_condition, random_tree, tree_fields, tree_holds, tree_tokens, wrong_at,
 )
 from mendrounds.conditions import Condition
 from mendrounds.errors import BadCondition, BadFilling, TooMany, Unlike
